@@ -1,0 +1,1 @@
+"""Heardquotes: what may become due, covered by trades that hang on what is heard."""
