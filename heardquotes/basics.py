@@ -31,3 +31,12 @@ def is_list(value):
 def is_place_below(value, places):
     """Whether it is the number of one of so many places, states or positions."""
     return is_count(value) and value < places
+
+
+def is_rising(value, places):
+    """Whether any value is a sorted tuple, not empty, of unlike numbers of so many places."""
+    if not isinstance(value, tuple) or len(value) == 0:
+        return False
+    if not all([is_place_below(place, places) for place in value]):
+        return False
+    return all([one < two for one, two in zip(value, value[1:])])

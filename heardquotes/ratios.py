@@ -1,6 +1,6 @@
 """Fractions in lowest terms, and what is reckoned with integers and fractions alike."""
 
-from math import gcd
+from math import gcd, lcm
 
 from heardquotes.basics import is_integer, is_list
 from heardquotes.errors import DividedByZero, InvalidNumber
@@ -28,8 +28,6 @@ class Ratio:
     def total(cls, numbers):
         if not is_list(numbers):
             raise InvalidNumber(numbers)
-        for number in numbers:
-            check_number(number)
         reckoned = cls(0)
         for number in numbers:
             reckoned = reckoned + number
@@ -150,3 +148,20 @@ def products(numbers, others):
     for number, other in zip(numbers, others):
         reckoned = reckoned + as_ratio(number) * other
     return reckoned
+
+
+def greatest(ratios):
+    """The greatest one of at least one Ratio."""
+    best = ratios[0]
+    for ratio in ratios[1:]:
+        if best.is_below(ratio):
+            best = ratio
+    return best
+
+
+def shared_bottom(ratios):
+    """The least integer above 0 by which all these Ratios become whole."""
+    scale = 1
+    for ratio in ratios:
+        scale = lcm(scale, ratio.bottom)
+    return scale

@@ -5,9 +5,7 @@ whole and stand above one common scale, so that nothing is brought to lowest ter
 the variable of the least number is taken, for otherwise a table could come back for ever.
 """
 
-from math import lcm
-
-from heardquotes.ratios import Ratio
+from heardquotes.ratios import Ratio, shared_bottom
 
 # Below the numbers of all others, so that the helper leaves as soon as it can.
 HELPER = -1
@@ -104,9 +102,7 @@ def swept(line, chosen, by, scale):
 
 def whole(numbers):
     """The tuple of the least scale by which all the Ratios become whole, and of these integers."""
-    scale = 1
-    for number in numbers:
-        scale = lcm(scale, number.bottom)
+    scale = shared_bottom(numbers)
     return scale, [number.top * (scale // number.bottom) for number in numbers]
 
 

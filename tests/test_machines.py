@@ -2,6 +2,7 @@ import random
 import unittest
 
 from helper import ODD_VALUES, is_same, raised
+from machinery import random_machine
 
 from heardquotes.machines import Machine
 from heardquotes.ratios import Ratio
@@ -11,14 +12,6 @@ NET = Machine(3, [(0, "a", 1), (0, "", 2), (1, "b", 0), (2, "a", 2)], [0])
 
 def all_steps(many, letters="abcde"):
     return [(start, letter, stop) for start in range(8) for letter in letters for stop in range(8)][:many]
-
-
-def random_machine(chance, letters="abc", most=8):
-    places = chance.randint(1, most)
-    steps = {(chance.randrange(places), chance.choice(["", *letters]), chance.randrange(places))
-             for _ in range(chance.randint(0, 12))}
-    begins = chance.sample(range(places), chance.randint(1, places))
-    return Machine(places, sorted(steps), begins)
 
 
 class Building(unittest.TestCase):
@@ -31,7 +24,7 @@ class Building(unittest.TestCase):
     def test_the_sequence_has_no_effect(self):
         chance = random.Random(1)
         for _ in range(30):
-            machine = random_machine(chance)
+            machine = random_machine(chance, most_places=8, most_steps=12)
             steps, begins = machine.steps(), machine.begins()
             chance.shuffle(steps)
             chance.shuffle(begins)
@@ -130,7 +123,7 @@ class Others(unittest.TestCase):
             self.assertEqual(raised(NET.renumbered, value), ("InvalidOrder", value))
         chance = random.Random(2)
         for _ in range(30):
-            machine = random_machine(chance)
+            machine = random_machine(chance, most_places=8, most_steps=12)
             order = list(range(machine.places))
             chance.shuffle(order)
             back = [order.index(at) for at in range(machine.places)]
@@ -181,7 +174,7 @@ class Others(unittest.TestCase):
         self.assertEqual(NET.trimmed(), NET)
         chance = random.Random(4)
         for _ in range(40):
-            machine = random_machine(chance)
+            machine = random_machine(chance, most_places=8, most_steps=12)
             kept, less = machine.come_to(), machine.trimmed()
             self.assertEqual(less.places, len(kept))
             self.assertEqual(less.begins(), [kept.index(place) for place in machine.begins()])

@@ -99,6 +99,7 @@ class Building(unittest.TestCase):
         self.assertEqual(TWO.without(0), Program(2, [([1, -1], 1)]))
         self.assertEqual(TWO.without(position=1), Program(2, [([1, 1], 4)]))
         self.assertEqual(TWO.with_bound(position=1, number=Ratio(1, 2)), Program(2, [([1, 1], 4), ([1, -1], Ratio(1, 2))]))
+        self.assertEqual(TWO.with_bound(0, 7), Program(2, [([1, 1], 7), ([1, -1], 1)]))
         for value in ODD_VALUES:
             self.assertEqual(raised(TWO.with_bound, 1, value), ("InvalidNumber", value))
 

@@ -1,0 +1,83 @@
+"""The names, parameters and files of the interface, as the document lists them."""
+
+import importlib
+import inspect
+import unittest
+
+import helper  # noqa: F401  (it lets the package be imported)
+
+FUNCTIONS = {
+    "basics": ["is_integer(value)", "is_count(value)", "is_letter(value)", "is_word(value)", "is_heard(value)"],
+    "ratios": ["is_number(value)"],
+    "programs": ["solution(program)", "bar(program)", "is_solution(program, value)", "is_bar(program, value)",
+                 "outcome(program, aim)", "highest(program, aim)", "lowest(program, aim)", "best(program, aim)",
+                 "ray(program, aim)", "is_best_paper(program, aim, value)", "is_ray(program, aim, value)",
+                 "needless(program)", "lean(program)", "are_alike(one, other)", "parting(one, other)"],
+    "machines": [],
+    "runs": ["is_run(machine, value)", "stop_of(machine, run)", "heard_of(machine, heard, run)", "runs(machine, many)",
+             "run_for(machine, heard, word, place)"],
+    "charts": ["is_chart(machine, heard, value)", "first_chart(machine, heard)",
+               "chart_then(machine, heard, chart, letter)", "chart_behind(machine, heard, word)",
+               "next_letters(machine, heard, chart)", "all_charts(machine, heard)", "words(machine, heard, many)",
+               "least_word(machine, heard, chart)"],
+    "claims": ["floor(claim, chart)", "greatest_floor(machine, heard, claim, chart)",
+               "ceilings(machine, heard, claim, chart)", "is_ceilings(machine, heard, claim, chart, value)",
+               "is_spent(machine, heard, claim, chart)", "rise(machine, heard, claim, chart)",
+               "toll_round(machine, heard, claim, chart)", "is_toll_round(machine, heard, claim, chart, value)"],
+    "quotes": ["is_quote(value)", "is_position(board, state, value)", "gain(board, state, position, letter)"],
+    "boards": [],
+}
+CLASSES = {
+    "ratios.Ratio": (["__init__(self, top, bottom=1)", "over(self, other)", "size(self)", "is_below(self, other)",
+                      "is_at_most(self, other)"],
+                     "top bottom sign is_whole", "add radd sub rsub mul rmul neg eq str repr"),
+    "programs.Program": (["__init__(self, unknowns, rows=())", "rows(self)", "without(self, position)",
+                          "with_bound(self, position, number)", "sums(self, values)"],
+                         "unknowns", "len getitem add eq repr"),
+    "machines.Machine": (["__init__(self, places, steps, begins)", "steps(self)", "begins(self)",
+                          "with_step(self, step)", "without_step(self, step)", "renumbered(self, order)",
+                          "relettered(self, letters)", "beside(self, other)", "come_to(self)", "trimmed(self)"],
+                         "places letters", "eq repr"),
+    "claims.Claim": (["__init__(self, dues, tolls=None)", "dues(self)", "tolls(self)", "due(self, place)",
+                      "toll(self, letter)", "tolls_of(self, word)"], "", "add mul eq repr"),
+    "boards.Board": (["__init__(self, rows, turns=None)", "quotes(self, state)", "turns(self)",
+                      "then(self, state, letter)", "state_behind(self, word)", "with_quote(self, state, quote)",
+                      "without_quote(self, state, number)", "beside(self, other)"],
+                     "states letters", "mul eq repr"),
+}
+
+
+def module_of(name):
+    return importlib.import_module("heardquotes." + name)
+
+
+class Interface(unittest.TestCase):
+    def test_functions(self):
+        for name, listed in FUNCTIONS.items():
+            for entry in listed:
+                function = getattr(module_of(name), entry.partition("(")[0])
+                self.assertEqual(function.__name__ + str(inspect.signature(function)), entry)
+                self.assertEqual(function.__module__, "heardquotes." + name)
+
+    def test_classes(self):
+        for path, (methods, properties, operators) in CLASSES.items():
+            module, _, name = path.partition(".")
+            made = getattr(module_of(module), name)
+            self.assertEqual((made.__module__, made.__bases__), ("heardquotes." + module, (object,)))
+            own = vars(made)
+            for entry in methods:
+                method = own[entry.partition("(")[0]]
+                self.assertEqual(method.__name__ + str(inspect.signature(method)), entry)
+            for entry in properties.split():
+                self.assertIsInstance(own[entry], property)
+            for entry in operators.split():
+                self.assertIn(f"__{entry}__", own)
+
+    def test_class_method(self):
+        total = vars(module_of("ratios").Ratio)["total"]
+        self.assertIsInstance(total, classmethod)
+        self.assertEqual(str(inspect.signature(total.__func__)), "(cls, numbers)")
+
+
+if __name__ == "__main__":
+    unittest.main()
