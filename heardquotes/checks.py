@@ -2,7 +2,10 @@
 
 from heardquotes.basics import is_count, is_heard, is_letter, is_place_below, is_word
 from heardquotes.errors import InvalidHeard, InvalidLetter, InvalidMany, InvalidPlace, InvalidState, InvalidWord
-from heardquotes.errors import UnheardLetter, UnknownPlace
+from heardquotes.errors import TooMany, UnheardLetter, UnknownPlace
+
+# The greatest length of plans and flows.
+MOST_LENGTH = 12
 
 
 def check_heard(machine, heard):
@@ -43,3 +46,8 @@ def check_fit(machine, heard, claim):
     for letter in claim.tolls():
         if letter not in heard:
             raise UnheardLetter(letter)
+
+
+def check_length(many):
+    if many > MOST_LENGTH:
+        raise TooMany("letters", MOST_LENGTH)

@@ -14,7 +14,7 @@ ODD_VALUES = (None, True, False, "", "0", "A", "ab ", b"a", b"", [], [None], (),
 
 
 def fraction(number):
-    return Fraction(number) if isinstance(number, int) else Fraction(number.top, number.bottom)
+    return Fraction(number.top, number.bottom) if isinstance(number, Ratio) else Fraction(number)
 
 
 def ratio(number):

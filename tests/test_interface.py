@@ -26,6 +26,26 @@ FUNCTIONS = {
                "toll_round(machine, heard, claim, chart)", "is_toll_round(machine, heard, claim, chart, value)"],
     "quotes": ["is_quote(value)", "is_position(board, state, value)", "gain(board, state, position, letter)"],
     "boards": [],
+    "markets": ["first_stand(market)", "next_letters_of(market, stand)", "next_stands(market, stand)",
+                "stands(market)", "stand_behind(market, word)", "word_to(market, stand)"],
+    "moments": ["fair_weights(market, stand)", "is_fair(market, stand, value)", "sure_gain(market, stand)",
+                "is_sure(market, stand, value)", "live_letters(market, stand)", "weights_with(market, stand, letter)",
+                "free_cover(market, stand)", "is_free_cover(market, stand, value)", "reach(market, stand, coins)",
+                "reaching(market, stand, coins)", "does_reach(market, stand, number, coins, value)",
+                "worths(market, stand, coins)"],
+    "lengths": ["need(market, claim, many)", "need_from(market, claim, stand, many)", "needs(market, claim, many)",
+                "length_plan(market, claim, many)", "is_length_plan(market, claim, number, many, value)",
+                "length_flow(market, claim, many)", "is_length_flow(market, many, value)",
+                "worth(market, claim, flow)", "lack(market, claim, number, many)",
+                "is_lack(market, claim, number, many, value)", "first_lack(market, claim, number, most)"],
+    "played": ["played(market, claim, plan, word)", "word_plan(market, claim, plan)",
+               "is_word_plan(market, claim, number, many, value)", "word_weights(market, flow)",
+               "left_over(market, claim, plan, flow)"],
+    "folded": ["cover(market, claim)", "covers(market, claim)", "folded_plan(market, claim)",
+               "is_folded_plan(market, claim, value)", "plan_at_length(market, claim, plan, many)"],
+    "flows": ["greatest_flow(market, claim)", "flow_above(market, claim, number)", "is_flow(market, value)",
+              "flow_worth(market, claim, flow)", "is_tight(market, claim, plan, flow)",
+              "flow_at_length(market, flow, many)", "on_the_way(market, flow, many)"],
 }
 CLASSES = {
     "ratios.Ratio": (["__init__(self, top, bottom=1)", "over(self, other)", "size(self)", "is_below(self, other)",
@@ -44,6 +64,8 @@ CLASSES = {
                       "then(self, state, letter)", "state_behind(self, word)", "with_quote(self, state, quote)",
                       "without_quote(self, state, number)", "beside(self, other)"],
                      "states letters", "mul eq repr"),
+    "markets.Market": (["__init__(self, machine, heard, board)", "with_board(self, board)", "with_heard(self, heard)"],
+                       "machine heard board", "eq repr"),
 }
 
 
