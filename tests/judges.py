@@ -5,40 +5,52 @@ right kinds already; only its worth and its keys are looked at.
 """
 
 from fractions import Fraction
-from itertools import combinations
+from itertools import combinations, product
 
 from helper import fraction
 
 from heardquotes.boards import Board
 from heardquotes.claims import Claim
 from heardquotes.errors import TooMany
+from heardquotes.machines import Machine
 from heardquotes.markets import Market
 from heardquotes.ratios import Ratio
 from machinery import random_heard, random_machine, random_number
 
 
-def random_quote(chance, letters):
+def random_quote(chance, letters, barring=0.1):
+    if chance.random() < barring:
+        # Whoever buys it gains at its letter, and loses nowhere.
+        return {chance.choice(letters): 1}, None, 0
     pays = {letter: random_number(chance) for letter in letters if chance.random() < 0.8} or {letters[0]: 1}
-    low = random_number(chance, -2, 2)
+    low = random_number(chance, -2, 2) if chance.random() < 0.2 else average(pays)
     spread = chance.choice([0, 0, 1, Ratio(1, 2)])
     kind = chance.randrange(4)
     return pays, None if kind == 0 else low, None if kind == 1 else Ratio.total([low, spread])
 
 
-def random_board(chance, letters, most_states=3, most_quotes=3):
+def average(pays):
+    """The price that is fair if letters count the more the later they stand."""
+    counts = {letter: "abcdef".index(letter) + 1 for letter in pays}
+    return Ratio.total([pays[letter] * Ratio(counts[letter], sum(counts.values())) for letter in pays])
+
+
+def random_board(chance, letters, most_states=3, most_quotes=3, barring=0.1):
     states = chance.randint(1, most_states)
-    rows = [[random_quote(chance, letters) for _ in range(chance.randint(0, most_quotes))] if letters else []
+    rows = [[random_quote(chance, letters, barring) for _ in range(chance.randint(0, most_quotes))] if letters else []
             for _ in range(states)]
     turns = {(state, letter): chance.randrange(states) for state in range(states) for letter in letters
              if chance.random() < 0.4}
     return Board(rows, turns)
 
 
-def random_market(chance, most_places=4, most_steps=9, most_quotes=3, most_stands=20, letters="abc"):
+def random_market(chance, most_places=4, most_steps=9, most_quotes=3, most_stands=20, barring=0.1):
     while True:
-        machine = random_machine(chance, letters, most_places, most_steps)
+        machine = random_machine(chance, "abc", most_places, most_steps)
+        if len(machine.begins()) > 2:
+            continue
         heard = machine.letters if chance.random() < 0.7 else random_heard(chance, machine)
-        board = random_board(chance, heard, 2, most_quotes)
+        board = random_board(chance, heard, 2, most_quotes, barring)
         try:
             market = Market(machine, heard, board)
         except TooMany:
@@ -47,8 +59,23 @@ def random_market(chance, most_places=4, most_steps=9, most_quotes=3, most_stand
             return market
 
 
+def barring_market(chance):
+    """A market of two parts; by c, which a quote bars, the one leads to the other, where often a ring owes."""
+    steps = {(chance.randrange(2), chance.choice("ab"), chance.randrange(2)) for _ in range(chance.randint(1, 4))}
+    steps |= {(2, chance.choice("ab"), chance.randint(2, 3)) for _ in range(2)} | {(3, "a", 2)}
+    steps |= {(place, "c", 2) for place in range(2) if chance.random() < 0.8} | {(0, "c", 2)}
+    steps |= {(0, "", 1)} if chance.random() < 0.2 else set()
+    quotes = [random_quote(chance, "abc") for _ in range(chance.randint(0, 2))]
+    after = [random_quote(chance, "abc") for _ in range(chance.randint(0, 1))]
+    heard = "".join(sorted({letter for _, letter, _ in steps if letter} | {"a", "b"}))
+    machine = Machine(4, sorted(steps | {(3, "b", 3)}), [0])
+    return Market(machine, heard, Board([[({"c": 1}, None, 0), *quotes], after], {(0, "c"): 1}))
+
+
 def random_claim(chance, market, low=-2, high=1):
-    dues = {place: random_number(chance, 0, 4) for place in range(market.machine.places) if chance.random() < 0.7}
+    begins = market.machine.begins()
+    dues = {place: random_number(chance, 0, 1 if place in begins else 4) for place in range(market.machine.places)
+            if chance.random() < 0.8}
     tolls = {letter: random_number(chance, low, high) for letter in market.heard if chance.random() < 0.5}
     return Claim(dues, tolls)
 
@@ -397,3 +424,41 @@ def odd_keys(key):
         if isinstance(key[0], tuple) and isinstance(key[0][0], int) and key[0][0] in (0, 1):
             yield ((bool(key[0][0]), *key[0][1:]), *key[1:])
 
+
+
+def owing_stands(told, claim):
+    """The stands of all rings that owe, by going through all ways to choose a corner of the fair weights at each."""
+    found = set()
+    stands = [stand for stand in told.leads if told.corners(stand)]
+    for chosen in product(*[told.corners(stand) for stand in stands]):
+        policy = {stand: {} for stand in told.leads}
+        for stand, weights in zip(stands, chosen):
+            policy[stand] = {letter: part for letter, part in weights.items() if part > 0}
+        for stand in stands:
+            around = told.reached(policy, stand)
+            comes_back = all(policy[other] and stand in told.reached(policy, other) for other in around)
+            if comes_back and owes(told, claim, policy, around):
+                found |= set(around)
+    return found
+
+
+def owes(told, claim, policy, around):
+    """Whether the policy's way round these stands, each of which leads to each other one, has tolls above 0."""
+    rows = [[sum(part for letter, part in policy[one].items() if told.leads[one][letter] == other) - int(one == other)
+             for one in around] for other in around[1:]]
+    amounts = solved([*rows, [1] * len(around)], [0] * len(rows) + [1])
+    return sum(amount * part * fraction(claim.toll(letter)) for amount, stand in zip(amounts, around)
+               for letter, part in policy[stand].items()) > 0
+
+
+def kinds_of(told, claim):
+    """The kinds of all stands, from all rings that owe."""
+    owing = owing_stands(told, claim)
+    live = {stand: told.live(stand) for stand in told.leads}
+    found = {}
+    for stand in told.leads:
+        if set(told.reached(live, stand)) & owing:
+            found[stand] = "endless"
+        else:
+            found[stand] = "bounded" if set(told.reached(told.leads, stand)) & owing else "sound"
+    return found

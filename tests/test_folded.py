@@ -63,7 +63,7 @@ class Covers(unittest.TestCase):
                                 for letter, then in told.leads[stand].items()) for weights in corners[stand]]
                 self.assertEqual(fraction(least[stand]), max([told.floor(claim, stand), *averages]))
                 self.assertTrue(need_from(market, claim, stand, 4).is_at_most(least[stand]))
-        self.assertGreater(none, 3)
+        self.assertGreater(none, 1)
 
     def test_needs_come_near(self):
         chance = random.Random(342)

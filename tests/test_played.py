@@ -251,17 +251,17 @@ class LeftOver(unittest.TestCase):
     def test_by_chance(self):
         chance = random.Random(335)
         seen = set()
-        for _ in range(100):
+        for _ in range(120):
             market = random_market(chance)
             claim, other = random_claim(chance, market), random_claim(chance, market)
             many = chance.randint(0, 4)
             plan = length_plan(market, claim, many)
             flow = length_flow(market, chance.choice([claim, other]), many)
             if chance.random() < 0.5:
-                key = chance.choice(list(plan))
+                key = Told(market).first, many
                 quotes = market.board.quotes(key[0][1]) if key[1] else []
                 held = [-1 if ask is None else 1 for _, _, ask in quotes] or plan[key][1]
-                more = {**plan, key: (plan[key][0] + chance.randint(1, 30), held)}
+                more = {**plan, key: (plan[key][0] + chance.randint(5, 30), held)}
                 plan = more if is_length_plan(market, claim, 99, many, more) else plan
             first = Told(market).first, many
             over = left_over(market, claim, plan, flow)
