@@ -80,4 +80,5 @@ def parts(stream):
     """The stream told for each 1 that comes in."""
     amount = through(stream)
     leaves, weights = stream
-    return as_ratio(leaves).over(amount), {letter: as_ratio(weights[letter]).over(amount) for letter in weights}
+    told = {letter: as_ratio(weights[letter]).over(amount) for letter in sorted(weights)}
+    return as_ratio(leaves).over(amount), told

@@ -132,6 +132,8 @@ class AtLength(unittest.TestCase):
             (START, 0): (Ratio(1, 3), {}), (START, 1): (Ratio(1, 3), {"a": Ratio(1, 3), "b": Ratio(1, 3)}),
             (ENDED, 0): (Ratio(1, 3), {})}))
         self.assertTrue(is_same(flow_at_length(WAIT, FLOW, 0), {(START, 0): (Ratio(1), {})}))
+        unsorted = {ENDED: (1, {}), START: (0, {"b": 1, "a": 1})}
+        self.assertTrue(is_same(flow_at_length(WAIT, unsorted, 2), flow_at_length(WAIT, FLOW, 2)))
         self.assertTrue(is_same([on_the_way(WAIT, FLOW, many) for many in range(4)], [Ratio(1), HALF, quarter, Ratio(1, 8)]))
         self.assertTrue(is_same(on_the_way(market=WAIT, flow=PART, many=1), Ratio(2, 9)))
         self.assertTrue(is_same(on_the_way(WAIT, {START: (1, {})}, 0), Ratio(0)))

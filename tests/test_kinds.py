@@ -173,6 +173,17 @@ class AtLength(unittest.TestCase):
         value = half_at_length(SHOP, CLAIM, PLAN, 9)
         self.assertEqual((value[FIRST, 9][0], value[EVER, 8][0], value[ENDED, 8][0]), (Ratio(2), Ratio(8), Ratio(2)))
 
+    def test_a_position_that_loses_at_a_barred_letter(self):
+        """There have to be so many free bets that they bring this back, too."""
+        market = SHOP.with_board(Board([[({"b": 1}, None, 0), ({"a": 0, "b": -5}, None, 0)]]))
+        plan = {FIRST: (2, [0, 1], [1, 0]), ENDED: (3, [0, 0], [0, 0])}
+        self.assertIs(is_half_plan(market, CLAIM, plan), False)
+        plan[ENDED] = (2, [0, 0], [0, 0])
+        self.assertIs(is_half_plan(market, CLAIM, plan), True)
+        for many in range(13):
+            value = half_at_length(market, CLAIM, plan, many)
+            self.assertTrue(Told(market).is_length_plan(CLAIM, 2, many, value))
+
     def test_for_all_lengths_and_with_more_coins(self):
         chance = random.Random(375)
         bounded = 0

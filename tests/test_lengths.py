@@ -156,7 +156,8 @@ class Flows(unittest.TestCase):
                  {**FLOW, (ENDED, 1): (HALF, {"a": 0})}, {key: FLOW[key] for key in FLOW if key != (ENDED, 1)},
                  {**FLOW, (START, 2): (0, {"a": HALF, "b": Ratio(2, 3)})}, {(START, 2): (1, {"a": 0, "b": 0})},
                  {(START, 2): (0, {"a": 1}), (START, 1): (1, {})}, {(START, 2): (True, {})}, {(START, 2): (HALF, {})},
-                 {(START, 2): (1, {}), (START, 1): (0, {})}, {(START, True): (1, {})}]
+                 {(START, 2): (1, {}), (START, 1): (0, {})}, {(START, True): (1, {})},
+                 {**FLOW, (START, 0): (0, {"a": Ratio(1, 8), "b": Ratio(1, 8)})}]
         for value in [*ODD_VALUES, *wrong]:
             self.assertIs(is_length_flow(WAIT, 2, value), False, value)
             self.assertIs(is_lack(WAIT, DUE, -5, 2, value), False, value)
@@ -279,7 +280,8 @@ class Wrong(unittest.TestCase):
 
     def test_wrong_flows(self):
         for value in [*ODD_VALUES, PLAN, {(START, 13): (1, {})}, {(START, 2): (2, {})}, {START: (1, {})}, {((0,), 2): (1, {})},
-                      {**FLOW, (START, 3): (0, {})}, {(ENDED, 2): (1, {})}, {(START, -1): (1, {})}]:
+                      {**FLOW, (START, 3): (0, {})}, {(ENDED, 2): (1, {})}, {(START, -1): (1, {})}, {(START, 0): (0, {"a": HALF, "b": HALF})},
+                      {**FLOW, (START, None): (0, {})}, {**FLOW, (START,): (0, {})}, {**FLOW, (START, 1, 1): (0, {})}, {**FLOW, 5: (0, {})}]:
             self.assertEqual(raised(worth, WAIT, DUE, value), ("InvalidFlow", value))
         self.assertEqual(worth(WAIT, DUE, {(ENDED, 0): (1, {}), (START, 1): (0, {"b": HALF, "a": HALF}),
                                            (START, 0): (HALF, {}), (ENDED, 0): (HALF, {})}), Ratio(3, 2))

@@ -48,6 +48,11 @@ class More(unittest.TestCase):
         self.assertIs(is_most_paper(SHOP, Claim({}, {"c": 0}), Claim({}, {"c": 1}), (0, RING, {stand: (0, [0]) for stand in PAPER[2]})),
                       True)
 
+    def test_a_ring_that_stays_even(self):
+        noughts = {stand: (0, [0]) for stand in PAPER[2]}
+        self.assertIs(is_most_paper(SHOP, Claim({}), Claim({}), (0, RING, noughts)), False)
+        self.assertIs(is_most_paper(SHOP, Claim({}), Claim({}, {"a": 1}), (5, RING, noughts)), False)
+
     def test_by_chance(self):
         chance = random.Random(391)
         found = []

@@ -15,7 +15,8 @@ from heardquotes.ratios import Ratio
 
 WRONG_PLANS = [*ODD_VALUES, FLOW, {**PLAN, (START, 2): (2, [2])}, {**PLAN, (START, 3): (9, [0])}, {(START, 13): (3, [0])},
                {START: (3, [0])}, {**PLAN, (ENDED, 0): (2, [0])}, {(ENDED, 0): (3, [0])}, {(START, -1): (3, [0])},
-               {(START, False): (0, [0])}, {((0,), 0): (3, [0]), ((1,), 0): (3, [0])}]
+               {(START, False): (0, [0])}, {((0,), 0): (3, [0]), ((1,), 0): (3, [0])},
+               {**PLAN, (START, None): (3, [0])}, {**PLAN, (START,): (3, [0])}, {**PLAN, (START, 1, 1): (3, [0])}]
 WRONG_FLOWS = [*ODD_VALUES, PLAN, {(START, 13): (1, {})}, {(START, 2): (2, {})}, {START: (1, {})}, {(ENDED, 2): (1, {})},
                {**FLOW, (START, 3): (0, {})}, {(START, False): (1, {})}]
 ROUND = Market(Machine(1, [(0, "a", 0), (0, "b", 0)], [0]), "ab", Board([[]]))
