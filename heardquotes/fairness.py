@@ -3,19 +3,20 @@
 from heardquotes.quotes import can_hold, gain_of
 from heardquotes.ratios import Ratio, as_ratio, greatest, products
 from heardquotes.simplex import solve
+from heardquotes.ways import said
 
 
 class Moment:
     """The next letters of a stand and the quotes of its state; what it is asked with has to be right already.
 
-    A trade is one piece bought, or one piece sold, of a quote that lets it be; each has a row of its gains.
+    Each trade has a row of its gains. With the window its letters are ways, which gain what their letters gain.
     """
 
     def __init__(self, letters, quotes):
         self._letters = list(letters)
         self._quotes = list(quotes)
-        self._trades = [(at, side) for at, quote in enumerate(quotes) for side in (1, -1) if can_hold(quote, side)]
-        self._rows = [[gain_of(quotes[at], side, letter) for letter in letters] for at, side in self._trades]
+        self._trades = trades_of(quotes)
+        self._rows = [[gain_of(quotes[at], side, said(letter)) for letter in letters] for at, side in self._trades]
 
     def noughts(self):
         """The position of noughts alone."""
@@ -24,7 +25,7 @@ class Moment:
     def gains(self, position):
         """The dict from the next letters to what the position gains at them."""
         pairs = list(zip(self._quotes, position))
-        return {letter: Ratio.total([gain_of(quote, number, letter) for quote, number in pairs])
+        return {letter: Ratio.total([gain_of(quote, number, said(letter)) for quote, number in pairs])
                 for letter in self._letters}
 
     def are_fair(self, weights):
@@ -45,13 +46,8 @@ class Moment:
         aim = [coins[letter] for letter in self._letters]
         kind, values, cap = solve(len(aim), rows, aim)
         if kind == "bar":
-            return None, None, self._traded(values[2:])
-        return products(aim, values), dict(zip(self._letters, values)), self._traded(cap[2:])
-
-    def _traded(self, numbers):
-        """The position of so many pieces of each trade; what is bought and sold of one quote is not traded."""
-        pieces = [(at, number * side) for (at, side), number in zip(self._trades, numbers)]
-        return [Ratio.total([number for at, number in pieces if at == quote]) for quote in range(len(self._quotes))]
+            return None, None, traded(self._quotes, values[2:])
+        return products(aim, values), dict(zip(self._letters, values)), traded(self._quotes, cap[2:])
 
     def leading(self, number, coins):
         """A position that leads from the number to the coins; it has to be at least their reach, if there is one."""
@@ -93,6 +89,17 @@ class Moment:
             return self.weigh(self._only(""))[2]
         covers = [self.weigh(self._only(letter))[2] for letter in self._letters if letter not in live]
         return [Ratio.total([cover[at] for cover in covers]) for at in range(len(self._quotes))]
+
+
+def trades_of(quotes):
+    """The trades, one piece bought, or one sold, of a quote that lets it be: tuples of its number, and 1 or -1."""
+    return [(at, side) for at, quote in enumerate(quotes) for side in (1, -1) if can_hold(quote, side)]
+
+
+def traded(quotes, numbers):
+    """The position of so many pieces of each trade; what is bought and sold of one quote is not traded."""
+    pieces = [(at, number * side) for (at, side), number in zip(trades_of(quotes), numbers)]
+    return [Ratio.total([number for at, number in pieces if at == quote]) for quote in range(len(quotes))]
 
 
 def moment_at(market, stand):

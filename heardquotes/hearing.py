@@ -25,8 +25,12 @@ class Hearing:
         """The chart then a letter, None if it can't be heard next."""
         if letter not in self._heard:
             return None
-        stops = [stop for place in chart for stop in self._stops[(place, letter)]]
+        stops = self.stops(chart, letter)
         return self.joined(stops) if stops else None
+
+    def stops(self, chart, letter):
+        """The sorted list of the places to which a step with this heard letter leads from a place of the chart."""
+        return sorted(set([stop for place in chart for stop in self._stops[(place, letter)]]))
 
     def ways(self, chart):
         """The dict from the letters that can be heard next, sorted, to the charts then them."""

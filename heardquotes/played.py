@@ -9,7 +9,7 @@ from heardquotes.markets import check_claim, first_stand
 from heardquotes.quotes import is_position
 from heardquotes.ratios import Ratio, as_ratio, as_ratios, check_number
 from heardquotes.scenes import Scene
-from heardquotes.spans import is_plan_of_length, longest_of
+from heardquotes.spans import is_plan_of_own_length, longest_of
 from heardquotes.streams import parts
 from heardquotes.ways import led_by
 
@@ -17,8 +17,7 @@ MOST_WORDS = 500
 
 
 def check_plan(market, claim, plan):
-    longest = longest_of(plan)
-    if longest is None or not is_plan_of_length(market, claim, longest, plan):
+    if not is_plan_of_own_length(market, claim, plan):
         raise InvalidPlan(plan)
 
 

@@ -8,7 +8,7 @@ stands at least has other weights than before, for before it was left, and gains
 from heardquotes.fairness import positive
 from heardquotes.linear import solved_lines
 from heardquotes.ratios import Ratio
-from heardquotes.ways import words_from
+from heardquotes.ways import all_from
 
 
 def settled(scene, stands):
@@ -69,7 +69,7 @@ def value_line(scene, policy, going, stand):
 def lost_ring(scene, policy):
     """A ring, with weights, that is never left by the policy; None if each stand leads to one where one leaves."""
     ways = policy_ways(scene, policy)
-    reached = {stand: sorted(words_from(ways, stand)) for stand in policy}
+    reached = {stand: sorted(all_from(ways, stand)) for stand in policy}
     lost = [stand for stand in policy if all([policy[then] for then in reached[stand]])]
     if not lost:
         return None
@@ -96,7 +96,7 @@ def times_weights(weights, amount):
 def flow_by_policy(scene, policy, first):
     """The folded flow from the first stand, with what leaves and goes on by the policy."""
     ways = policy_ways(scene, policy)
-    source = {stand: Ratio(1 if stand == first else 0) for stand in words_from(ways, first)}
+    source = {stand: Ratio(1 if stand == first else 0) for stand in all_from(ways, first)}
     amounts = passing(policy, ways, source)
     return {stand: (Ratio(0) if policy[stand] else amounts[stand], times_weights(policy[stand], amounts[stand]))
             for stand in amounts}

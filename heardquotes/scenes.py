@@ -4,6 +4,7 @@ from heardquotes.claims import floor
 from heardquotes.fairness import moment_at
 from heardquotes.quotes import is_position
 from heardquotes.ratios import as_ratio, as_ratios, is_number
+from heardquotes.ways import said
 
 
 class Scene:
@@ -13,7 +14,7 @@ class Scene:
         self._board = market.board
         self._leads = market.leads()
         self._floors = {stand: floor(claim, stand[0]) for stand in self._leads}
-        self._tolls = {letter: claim.toll(letter) for letter in market.heard}
+        self._tolls = {letter: claim.toll(said(letter)) for leads in self._leads.values() for letter in leads}
         self._moments = {stand: moment_at(market, stand) for stand in self._leads}
 
     def leads(self, stand):

@@ -58,6 +58,12 @@ def is_plan_of_length(market, claim, many, value):
     return all([is_enough(scene, value, key) for key in value])
 
 
+def is_plan_of_own_length(market, claim, value):
+    """Whether any value is a length plan for its own coins and as many letters as are left at most in its keys."""
+    longest = longest_of(value)
+    return longest is not None and is_plan_of_length(market, claim, longest, value)
+
+
 def is_enough(scene, plan, key):
     """Whether what the plan holds at the key leads to what it tells one letter later."""
     stand, left = key

@@ -1,10 +1,9 @@
 """Flows of both kinds, by stands alone or by stands and letters left: what leaves, and what goes on by letters."""
 
-from heardquotes.basics import is_letter
 from heardquotes.claims import floor
 from heardquotes.fairness import moment_at
 from heardquotes.ratios import Ratio, as_ratio, is_at_least_zero, is_number
-from heardquotes.ways import words_from
+from heardquotes.ways import all_from, is_way, said
 
 
 def are_weights(market, stand, value):
@@ -12,7 +11,7 @@ def are_weights(market, stand, value):
     if not isinstance(value, dict):
         return False
     leads = market.leads()[stand]
-    if not all([is_letter(letter) and letter in leads for letter in value]):
+    if not all([is_way(letter) and letter in leads for letter in value]):
         return False
     if not all([is_number(number) and as_ratio(number).sign > 0 for number in value.values()]):
         return False
@@ -62,7 +61,7 @@ def is_kept(flow, first, leads):
     weights = {key: flow[key][1] for key in flow}
     if first not in flow or not is_closed(weights, leads):
         return False
-    if len(words_from(taken(weights, leads), first)) != len(flow):
+    if len(all_from(taken(weights, leads), first)) != len(flow):
         return False
     led = incoming(weights, leads)
     coming = {**led, first: led.get(first, Ratio(0)) + 1}
@@ -72,7 +71,7 @@ def is_kept(flow, first, leads):
 def stream_worth(claim, stand, stream):
     """What leaves by the floor, and what goes on by the tolls."""
     leaves, weights = stream
-    paid = [claim.toll(letter) * weight for letter, weight in weights.items()]
+    paid = [claim.toll(said(letter)) * weight for letter, weight in weights.items()]
     return floor(claim, stand[0]) * leaves + Ratio.total(paid)
 
 

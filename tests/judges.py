@@ -125,10 +125,11 @@ class Told:
             found[letter] = Fraction(0)
             for number, (pays, bid, ask) in zip(position, self.market.board.quotes(stand[1])):
                 pieces = fraction(number)
-                if letter in pays and pieces > 0:
-                    found[letter] += pieces * (fraction(pays[letter]) - fraction(ask))
-                if letter in pays and pieces < 0:
-                    found[letter] -= pieces * (fraction(bid) - fraction(pays[letter]))
+                # With the window what is here called a letter is a tuple (letter, place).
+                if letter[0] in pays and pieces > 0:
+                    found[letter] += pieces * (fraction(pays[letter[0]]) - fraction(ask))
+                if letter[0] in pays and pieces < 0:
+                    found[letter] -= pieces * (fraction(bid) - fraction(pays[letter[0]]))
         return found
 
     def trades(self, stand):
@@ -187,14 +188,14 @@ class Told:
         table = [floors]
         for _ in range(many):
             table.append({stand: max([floors[stand]] + [
-                sum(weights[letter] * (table[-1][then] + fraction(claim.toll(letter)))
+                sum(weights[letter] * (table[-1][then] + fraction(claim.toll(letter[0])))
                     for letter, then in self.leads[stand].items()) for weights in corners[stand]])
                 for stand in self.leads})
         return table
 
     def does_lead(self, claim, stand, coins, position, wanted):
         gains = self.gains(stand, position)
-        return all(fraction(coins) + gains[letter] - fraction(claim.toll(letter)) >= fraction(wanted[then])
+        return all(fraction(coins) + gains[letter] - fraction(claim.toll(letter[0])) >= fraction(wanted[then])
                    for letter, then in self.leads[stand].items() if then in wanted)
 
     def is_folded_plan(self, claim, value):
@@ -268,7 +269,7 @@ class Told:
 
     def worth(self, claim, flow, stand_of=lambda stand: stand):
         return sum(fraction(leaves) * self.floor(claim, stand_of(key))
-                   + sum(fraction(weight) * fraction(claim.toll(letter)) for letter, weight in weights.items())
+                   + sum(fraction(weight) * fraction(claim.toll(letter[0])) for letter, weight in weights.items())
                    for key, (leaves, weights) in flow.items())
 
     def length_worth(self, claim, flow):
@@ -303,7 +304,7 @@ class Told:
         return found
 
     def tolls(self, claim, ring):
-        return sum(fraction(weight) * fraction(claim.toll(letter))
+        return sum(fraction(weight) * fraction(claim.toll(letter[0]))
                    for weights in ring.values() for letter, weight in weights.items())
 
     def passed(self, word, start=None):
@@ -321,6 +322,25 @@ class Told:
             level = [word + letter for word in level for letter in self.leads[self.passed(word)[-1]]]
             found += level
         return found
+
+
+class ToldWindow(Told):
+    """The told stands of a market, told by going through all that can be heard and told; the letters are tuples
+    (letter, place)."""
+
+    def __init__(self, market):
+        super().__init__(market)
+        self.leads = {}
+        waiting = [self.first]
+        while waiting:
+            stand = waiting.pop(0)
+            if stand not in self.leads:
+                self.leads[stand] = {}
+                for place, said, stop in self.steps:
+                    if place in stand[0] and said != "" and said in market.heard:
+                        state = market.board.turns().get((stand[1], said), stand[1])
+                        self.leads[stand][said, stop] = (self.spread([stop]), state)
+                waiting.extend(self.leads[stand].values())
 
 
 def solved(rows, rights):
@@ -447,7 +467,7 @@ def owes(told, claim, policy, around):
     rows = [[sum(part for letter, part in policy[one].items() if told.leads[one][letter] == other) - int(one == other)
              for one in around] for other in around[1:]]
     amounts = solved([*rows, [1] * len(around)], [0] * len(rows) + [1])
-    return sum(amount * part * fraction(claim.toll(letter)) for amount, stand in zip(amounts, around)
+    return sum(amount * part * fraction(claim.toll(letter[0])) for amount, stand in zip(amounts, around)
                for letter, part in policy[stand].items()) > 0
 
 
