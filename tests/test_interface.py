@@ -79,6 +79,16 @@ FUNCTIONS = {
     "together": ["together(market, claims)", "own_covers(market, claims)", "saved(market, claims)"],
     "shares": ["shares_paper(market, claims)", "is_shares_paper(market, claims, value)",
                "shares(market, claims, paper)", "groups(market, claims, paper)"],
+    "orders": ["begun_at(machine, chart)", "at_most_pairs(machine, claim, other, second, heard)",
+               "is_at_most_paper(machine, claim, other, second, heard, value)",
+               "apart(machine, claim, other, second, heard)", "is_apart(machine, claim, other, second, heard, value)",
+               "are_alike(machine, claim, other, second, heard)", "claim_above(machine, claim, second, heard)"],
+    "texts": ["written(thing)"],
+    "readers": ["read(text)"],
+    "theses": ["words()", "is_thesis(value)", "is_true(thesis)", "contrary(thesis)", "paper_of(thesis)",
+               "is_paper(thesis, value)"],
+    "commands": ["is_command(value)", "is_deed(value)", "number_text(number)"],
+    "desk": ["tried(desk, action)"],
 }
 CLASSES = {
     "ratios.Ratio": (["__init__(self, top, bottom=1)", "over(self, other)", "size(self)", "is_below(self, other)",
@@ -99,6 +109,10 @@ CLASSES = {
                      "states letters", "mul eq repr"),
     "markets.Market": (["__init__(self, machine, heard, board)", "with_board(self, board)", "with_heard(self, heard)"],
                        "machine heard board", "eq repr"),
+    "desk.Desk": (["__init__(self, market, claim, number)", "do(self, command)", "do_all(self, *commands)",
+                   "attempt(self, *commands)", "log(self)", "copy(self)", "__call__(self, command)"],
+                  "market claim coins word stand is_stopped held", "len getitem setitem contains call"),
+    "desk.Trial": (["__init__(self, desk)"], "", "enter exit"),
 }
 
 
@@ -128,10 +142,12 @@ class Interface(unittest.TestCase):
             for entry in operators.split():
                 self.assertIn(f"__{entry}__", own)
 
-    def test_class_method(self):
-        total = vars(module_of("ratios").Ratio)["total"]
-        self.assertIsInstance(total, classmethod)
-        self.assertEqual(str(inspect.signature(total.__func__)), "(cls, numbers)")
+    def test_class_methods(self):
+        for made, name, signature in ((module_of("ratios").Ratio, "total", "(cls, numbers)"),
+                                      (module_of("desk").Desk, "again", "(cls, market, claim, number, plans, lines)")):
+            method = vars(made)[name]
+            self.assertIsInstance(method, classmethod)
+            self.assertEqual(str(inspect.signature(method.__func__)), signature)
 
 
 if __name__ == "__main__":

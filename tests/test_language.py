@@ -26,10 +26,11 @@ DOUBLE = set("""init eq repr str len enter exit call iter lt le gt ge ne add sub
     lshift rshift radd rsub rmul rfloordiv rmod rand ror rxor rlshift rrshift iadd isub imul neg pos invert abs bool
     contains getitem setitem""".split())
 BARRED_NODES = (ast.GeneratorExp, ast.Global, ast.AsyncFunctionDef, ast.AsyncFor, ast.AsyncWith, ast.Await,
-                ast.Import, ast.Div, ast.MatMult, ast.AnnAssign, ast.Yield, ast.YieldFrom, ast.Try, ast.Match)
+                ast.Import, ast.Div, ast.MatMult, ast.AnnAssign, ast.Yield, ast.YieldFrom, ast.Match)
 # An example that was run leaves its last value there as _.
 TAKEN = set(dir(builtins)) - {"_"}
 MODULE_LEVEL = (ast.ImportFrom, ast.FunctionDef, ast.ClassDef, ast.Assign)
+DESK_CHANGES = ("__setitem__", "__enter__", "__exit__", "again", "do", "_undo", "_redo", "do_all", "copy")
 OWN_OBJECTS = (ast.List, ast.ListComp, ast.Dict)
 
 
@@ -145,6 +146,40 @@ class Language(unittest.TestCase):
     def test_barred_nodes(self):
         for stem, node in nodes(BARRED_NODES):
             self.fail(f"{self.say(stem, node)} {node.__class__.__name__}")
+
+    def test_only_own_errors_are_caught(self):
+        own = {node.name for node in TREES["errors"].body if isinstance(node, ast.ClassDef)}
+        for stem, node in nodes(ast.Try):
+            self.assertFalse(node.finalbody or node.orelse, self.say(stem, node))
+        for stem, node in nodes(ast.ExceptHandler):
+            caught = node.type.elts if isinstance(node.type, ast.Tuple) else [node.type]
+            self.assertLessEqual({item.id for item in caught}, own, self.say(stem, node))
+
+    def test_raised_errors_are_created_on_the_spot(self):
+        own = {node.name for node in TREES["errors"].body if isinstance(node, ast.ClassDef)}
+        for stem, node in nodes(ast.Raise):
+            self.assertIn(node.exc.func.id, own | {"TypeError"}, self.say(stem, node))
+
+    def test_functions_of_tables_get_a_name_before_they_are_called(self):
+        for stem, node in nodes(ast.Call):
+            self.assertIsInstance(node.func, (ast.Name, ast.Attribute), self.say(stem, node))
+
+    def test_tables_have_functions_of_their_own_file(self):
+        for stem, tree in TREES.items():
+            defined = {node.name for node in tree.body if isinstance(node, ast.FunctionDef)}
+            for node in tree.body:
+                if isinstance(node, ast.Assign):
+                    names = {item.id for item in ast.walk(node.value) if isinstance(item, ast.Name)}
+                    self.assertLessEqual(names, defined, self.say(stem, node))
+                    self.assertFalse([item for item in ast.walk(node.value) if isinstance(item, ast.Lambda)])
+
+    def test_leaving_a_block_only_assigns_attributes(self):
+        for stem, node in functions():
+            if node.name == "__exit__":
+                for row in node.body:
+                    self.assertIsInstance(row, ast.Assign, self.say(stem, row))
+                    self.assertIsInstance(row.targets[0], ast.Attribute, self.say(stem, row))
+                    self.assertIsInstance(row.value, ast.Attribute, self.say(stem, row))
 
     def test_constants(self):
         for stem, node in nodes(ast.Constant):
@@ -267,7 +302,8 @@ class Language(unittest.TestCase):
 
     def test_special_methods_change_nothing(self):
         for stem, node in functions():
-            if not node.name.startswith("__") or node.name in ("__init__", "__setitem__", "__call__", "__exit__"):
+            if not node.name.startswith("__") or node.name in ("__init__", "__setitem__", "__call__", "__enter__",
+                                                               "__exit__"):
                 continue
             for item in ast.walk(node):
                 if isinstance(item, (ast.Attribute, ast.Subscript)):
@@ -276,9 +312,12 @@ class Language(unittest.TestCase):
                 self.assertIsInstance(node.body[-1], ast.Return, self.say(stem, node))
 
     def test_functions_change_only_what_they_made(self):
-        """Operators and properties run most functions; so all outside of the simplex keep this rule."""
+        """Operators and properties run most functions; so all outside of the simplex keep this rule, and of desks
+        what does not change them."""
         for stem, node in functions():
             if stem == "simplex" or node.name == "__init__":
+                continue
+            if stem == "desk" and node.name in DESK_CHANGES:
                 continue
             own = set()
             for item in ast.walk(node):
