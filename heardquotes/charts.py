@@ -2,8 +2,9 @@
 
 from heardquotes.basics import is_rising
 from heardquotes.checks import check_heard, check_letter, check_many, check_word
-from heardquotes.errors import InvalidChart, TooMany
-from heardquotes.hearing import Hearing, least_words
+from heardquotes.errors import InvalidChart
+from heardquotes.hearing import Hearing
+from heardquotes.ways import words_from, words_within
 
 MOST_WORDS = 500
 
@@ -51,20 +52,12 @@ def words(machine, heard, many):
     check_heard(machine, heard)
     check_many(many)
     hearing = Hearing(machine, heard)
-    level = [("", hearing.first())]
-    found = [""]
-    letters = 0
-    while level and letters < many:
-        level = [(word + letter, then) for word, chart in level for letter, then in hearing.ways(chart).items()]
-        found.extend([word for word, chart in level])
-        if len(found) > MOST_WORDS:
-            raise TooMany("words", MOST_WORDS)
-        letters += 1
-    return found
+    first = hearing.first()
+    return list(words_within(hearing.charts_from(first), first, many, MOST_WORDS))
 
 
 def least_word(machine, heard, chart):
     check_chart(machine, heard, chart)
     hearing = Hearing(machine, heard)
     first = hearing.first()
-    return least_words(hearing.charts_from(first), first).get(chart)
+    return words_from(hearing.charts_from(first), first).get(chart)

@@ -1,5 +1,7 @@
 """A machine as it is heard: the way from chart to chart, with tables that are made once."""
 
+from heardquotes.ways import explored
+
 
 class Hearing:
     """A machine and letters that are heard; what it is asked with has to be right already."""
@@ -47,16 +49,7 @@ class Hearing:
 
     def charts_from(self, chart):
         """The dict from the charts to which words lead from this one to their ways, by rising least words."""
-        found = {}
-        waiting = [chart]
-        while waiting:
-            fresh = []
-            for known in waiting:
-                if known not in found:
-                    found[known] = self.ways(known)
-                    fresh.extend(list(found[known].values()))
-            waiting = fresh
-        return found
+        return explored(chart, lambda known: self.ways(known))
 
 
 def is_said(letter, heard):
@@ -75,13 +68,3 @@ def spread(pairs, place):
                 found[stop] = True
                 waiting.append(stop)
     return sorted(found)
-
-
-def least_words(charts, first):
-    """The least words that lead from the first chart to each, charts being what charts_from tells of it."""
-    told = {first: ""}
-    for chart, ways in charts.items():
-        for letter, then in ways.items():
-            if then not in told:
-                told[then] = told[chart] + letter
-    return told

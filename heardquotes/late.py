@@ -8,7 +8,7 @@ from heardquotes.fairness import positive
 from heardquotes.markets import check_claim
 from heardquotes.news import News, heard_words, key_of, known_part
 from heardquotes.quotes import gain_of, is_position
-from heardquotes.ratios import Ratio, as_ratio, check_number, is_at_least_zero, products
+from heardquotes.ratios import Ratio, are_parts_of_one, as_ratio, check_number, products
 
 
 def check_late(late):
@@ -92,10 +92,7 @@ def is_late_weights(market, many, late, value):
 def are_weights(news, value):
     if not isinstance(value, dict) or not all([is_word(word) and word in news.stands() for word in value]):
         return False
-    numbers = list(value.values())
-    if not all([is_at_least_zero(number) for number in numbers]) or Ratio.total(numbers) != Ratio(1):
-        return False
-    return news.are_fair(value)
+    return are_parts_of_one(list(value.values())) and news.are_fair(value)
 
 
 def late_worth(market, claim, many, late, value):

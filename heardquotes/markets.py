@@ -2,9 +2,9 @@
 
 from heardquotes.basics import is_place_below, is_rising
 from heardquotes.checks import check_fit, check_heard, check_word
-from heardquotes.errors import InvalidStand, TooMany, UnheardLetter
+from heardquotes.errors import InvalidStand, UnheardLetter
 from heardquotes.hearing import Hearing
-from heardquotes.ways import led_by, words_from
+from heardquotes.ways import explored, led_by, words_from
 
 MOST_STANDS = 20
 
@@ -58,18 +58,7 @@ class Market:
 
 def stand_leads(machine, heard, board):
     hearing = Hearing(machine, heard)
-    found = {}
-    waiting = [(hearing.first(), 0)]
-    while waiting:
-        fresh = []
-        for stand in waiting:
-            if stand not in found:
-                found[stand] = leads_of(hearing, board, stand)
-                fresh.extend(list(found[stand].values()))
-            if len(found) > MOST_STANDS:
-                raise TooMany("stands", MOST_STANDS)
-        waiting = fresh
-    return found
+    return explored((hearing.first(), 0), lambda stand: leads_of(hearing, board, stand), MOST_STANDS, "stands")
 
 
 def leads_of(hearing, board, stand):

@@ -6,7 +6,7 @@ from heardquotes.errors import InvalidCoins
 from heardquotes.fairness import moment_at
 from heardquotes.markets import check_stand
 from heardquotes.quotes import is_position
-from heardquotes.ratios import Ratio, as_ratio, check_number, is_at_least_zero, is_number
+from heardquotes.ratios import Ratio, are_parts_of_one, as_ratio, check_number, is_number
 
 
 def fair_weights(market, stand):
@@ -29,10 +29,7 @@ def is_fair(market, stand, value):
     check_stand(market, stand)
     if not has_next_letters(market, stand, value):
         return False
-    numbers = list(value.values())
-    if not all([is_at_least_zero(number) for number in numbers]) or Ratio.total(numbers) != Ratio(1):
-        return False
-    return moment_at(market, stand).are_fair(value)
+    return are_parts_of_one(list(value.values())) and moment_at(market, stand).are_fair(value)
 
 
 def sure_gain(market, stand):

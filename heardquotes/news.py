@@ -1,12 +1,12 @@
 """Late news: the heard words of a length, what is known of them, and the program of their weights."""
 
 from heardquotes.claims import floor
-from heardquotes.errors import TooMany
 from heardquotes.fairness import traded, trades_of
 from heardquotes.markets import first_stand
 from heardquotes.quotes import gain_of
 from heardquotes.ratios import Ratio, products
 from heardquotes.simplex import solve
+from heardquotes.ways import words_within
 
 MOST_WORDS = 31
 
@@ -22,17 +22,7 @@ def key_of(word, late):
 
 def heard_words(market, many):
     """The dict from the words of at most so many letters that can be heard, the least one first, to their stands."""
-    leads = market.leads()
-    found = {"": first_stand(market)}
-    level = {"": first_stand(market)}
-    letters = 0
-    while level and letters < many:
-        level = {word + letter: then for word, stand in level.items() for letter, then in leads[stand].items()}
-        found = {**found, **level}
-        if len(found) > MOST_WORDS:
-            raise TooMany("words", MOST_WORDS)
-        letters += 1
-    return found
+    return words_within(market.leads(), first_stand(market), many, MOST_WORDS)
 
 
 class News:

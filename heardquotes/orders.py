@@ -6,11 +6,12 @@ from heardquotes.checks import check_fit, check_heard
 from heardquotes.claims import floor
 from heardquotes.errors import HasTolls, InvalidChart, InvalidHeard, OtherTolls, UnknownPlace
 from heardquotes.folded import cover
-from heardquotes.hearing import Hearing, least_words
+from heardquotes.hearing import Hearing
 from heardquotes.machines import Machine
 from heardquotes.markets import Market
 from heardquotes.pairings import Pairing
 from heardquotes.ratios import Ratio
+from heardquotes.ways import words_from
 
 
 def begun_at(machine, chart):
@@ -118,8 +119,7 @@ def claim_above(machine, claim, second, heard):
     check_fit(machine, heard, second)
     check_same_tolls(claim, second)
     hearing = Hearing(machine, heard)
-    words = least_words(hearing.charts_from(hearing.first()), hearing.first())
-    for chart, word in words.items():
+    for chart, word in words_from(hearing.charts_from(hearing.first()), hearing.first()).items():
         if floor(second, chart).is_below(floor(claim, chart)):
             return word
     return None

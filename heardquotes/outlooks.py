@@ -1,7 +1,8 @@
 """What may come from a chart on, without any quotes: floors and tolls over all words that lead on."""
 
-from heardquotes.hearing import Hearing, least_words
+from heardquotes.hearing import Hearing
 from heardquotes.ratios import Ratio, shared_bottom
+from heardquotes.ways import words_from
 
 
 class Outlook:
@@ -72,7 +73,7 @@ class Outlook:
         ring, at = letters[chart], self._charts[chart][letters[chart]]
         while at != chart:
             ring, at = ring + letters[at], self._charts[at][letters[at]]
-        return least_words(self._charts, self._first)[chart], ring
+        return words_from(self._charts, self._first)[chart], ring
 
     def longer(self, sums):
         """The greatest sums of words with one letter more, None where there are no such words."""

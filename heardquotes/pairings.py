@@ -2,9 +2,9 @@
 
 from heardquotes.basics import is_rising
 from heardquotes.claims import floor
-from heardquotes.errors import TooMany
 from heardquotes.hearing import Hearing
 from heardquotes.outlooks import Outlook
+from heardquotes.ways import explored, words_from
 
 MOST_PAIRS = 200
 
@@ -78,16 +78,5 @@ class Pairing:
 
     def counted(self):
         """The dict from the pairs behind words that count to the least of these words, the least one first."""
-        found = {self._first: ""}
-        waiting = [self._first]
-        while waiting:
-            fresh = []
-            for pair in waiting:
-                for letter, then in self.ways_on(pair).items():
-                    if then not in found:
-                        found[then] = found[pair] + letter
-                        fresh.append(then)
-                if len(found) > MOST_PAIRS:
-                    raise TooMany("pairs", MOST_PAIRS)
-            waiting = fresh
-        return found
+        leads = explored(self._first, lambda pair: self.ways_on(pair), MOST_PAIRS, "pairs")
+        return words_from(leads, self._first)

@@ -142,6 +142,11 @@ def are_at_least_zero(value, many):
     return is_list(value) and len(value) == many and all([is_at_least_zero(number) for number in value])
 
 
+def are_parts_of_one(values):
+    """Whether all of a list of any values are NUMBERS that are at least 0, their sum 1."""
+    return all([is_at_least_zero(value) for value in values]) and Ratio.total(values) == Ratio(1)
+
+
 def products(numbers, others):
     """The sum of the products of the numbers, each with the other one at its position."""
     reckoned = Ratio(0)

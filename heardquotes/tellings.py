@@ -2,6 +2,7 @@
 
 from heardquotes.hearing import Hearing
 from heardquotes.markets import first_stand
+from heardquotes.ways import explored
 
 
 class Telling:
@@ -30,16 +31,7 @@ class Telling:
 
 def told_leads(market):
     hearing = Hearing(market.machine, market.heard)
-    found = {}
-    waiting = [first_stand(market)]
-    while waiting:
-        fresh = []
-        for stand in waiting:
-            if stand not in found:
-                found[stand] = told_leads_of(hearing, market, stand)
-                fresh.extend(list(found[stand].values()))
-        waiting = fresh
-    return found
+    return explored(first_stand(market), lambda stand: told_leads_of(hearing, market, stand))
 
 
 def told_leads_of(hearing, market, stand):
