@@ -2,7 +2,7 @@
 
 from heardquotes.basics import LETTERS, is_letter
 from heardquotes.numerals import DIGITS, is_count_text, number_in
-from heardquotes.ratios import as_ratio, check_number
+from heardquotes.ratios import as_ratio
 
 DEED_WORDS = ("hear", "hold", "follow", "leave", "stop")
 # These words stand alone.
@@ -52,5 +52,4 @@ def is_deed(value):
 
 
 def number_text(number):
-    check_number(number)
     return str(as_ratio(number))

@@ -1,4 +1,7 @@
-"""Judges of papers of theses: for each word whether any value is one; the parts have to be right already."""
+"""Judges of papers of theses: for each word whether any value is one; the parts have to be right already.
+
+Where a judge raises an error the value is no paper.
+"""
 
 from heardquotes.basics import is_word
 from heardquotes.bells import is_lack_paper, market_with
@@ -7,7 +10,7 @@ from heardquotes.fairness import moment_at
 from heardquotes.folded import is_folded_plan
 from heardquotes.hearing import Hearing
 from heardquotes.kinds import is_half_plan
-from heardquotes.late import is_late_plan, is_late_weights, late_worth
+from heardquotes.late import is_late_plan, late_worth
 from heardquotes.lengths import is_lack, is_length_plan
 from heardquotes.markets import first_stand
 from heardquotes.moments import does_reach, is_fair, is_sure
@@ -113,8 +116,6 @@ def judge_late_enough(market, claim, number, many, late, value):
 
 
 def judge_late_lacking(market, claim, number, many, late, value):
-    if not is_late_weights(market, many, late, value):
-        return False
     return not late_worth(market, claim, many, late, value).is_at_most(number)
 
 

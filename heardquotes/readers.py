@@ -146,12 +146,10 @@ def quote_in(row):
         return None
     letters, numbers = row[3::2], [number_in(text) for text in row[4::2]]
     prices = [None if text == NOTHING else number_in(text) for text in row[1:3]]
-    if None in numbers or not is_heard("".join(letters)) or not all([is_letter(letter) for letter in letters]):
-        return None
     if not all([text == NOTHING or price is not None for text, price in zip(row[1:3], prices)]):
         return None
     quote = dict(zip(letters, numbers)), prices[0], prices[1]
-    return quote if is_quote(quote) else None
+    return quote if is_heard("".join(letters)) and is_quote(quote) else None
 
 
 def turns_in(rows, at, states):

@@ -12,8 +12,6 @@ def words():
 
 def pair_of(value):
     """The two words of the line that has this one, any value; None if none has it."""
-    if not isinstance(value, str):
-        return None
     found = [pair for pair in PAIRS if value in pair]
     return found[0] if found else None
 

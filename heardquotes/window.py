@@ -28,22 +28,18 @@ def window_need(market, claim, many):
 
 
 def window_cover(market, claim):
-    check_claim(market, claim)
     return cover(Telling(market), claim)
 
 
 def window_plan(market, claim):
-    check_claim(market, claim)
     return folded_plan(Telling(market), claim)
 
 
 def is_window_plan(market, claim, value):
-    check_claim(market, claim)
     return is_folded_plan(Telling(market), claim, value)
 
 
 def window_flow(market, claim):
-    check_claim(market, claim)
     return greatest_flow(Telling(market), claim)
 
 
@@ -53,5 +49,4 @@ def is_window_flow(market, claim, value):
 
 
 def window_worth(market, claim, flow):
-    check_claim(market, claim)
     return flow_worth(Telling(market), claim, flow)

@@ -397,6 +397,7 @@ class ClaimAbove(unittest.TestCase):
         self.assertEqual(raised(claim_above, ONE, Claim({1: 1}, {"b": 1}), Claim({1: 1}, {"a": 2}), "ab"), ("OtherTolls", "a"))
         self.assertEqual(raised(claim_above, ONE, Claim({1: 1}, {"b": 1, "a": 2}), Claim({1: 1}, {"a": 2}), "ab"), ("OtherTolls", "b"))
         self.assertEqual(raised(claim_above, ONE, Claim({}, {"b": 1, "a": 2}), Claim({}, {"a": 2, "b": HALF}), "ab"), ("OtherTolls", "b"))
+        self.assertEqual(raised(claim_above, ONE, Claim({}), Claim({}, {"b": 1}), "ab"), ("OtherTolls", "b"))
 
 
 class Errors(unittest.TestCase):

@@ -49,6 +49,12 @@ class Costs(unittest.TestCase):
         free = Machine(1, [(0, letter, 0) for letter in "bcd"], [0])
         self.assertTrue(is_same(cheapest(free, Board([[]]), Claim({0: 2}), {"b": 0, "c": 0, "d": 0}), (Ratio(2), "")))
 
+    def test_a_bell_that_does_not_help(self):
+        """With c, and with b and c, it costs the same: the set with the fewest letters comes first."""
+        machine = Machine(5, [(0, "b", 0), (0, "c", 1), (0, "", 2), (1, "x", 3), (1, "y", 4), (2, "x", 4), (2, "y", 3)], [0])
+        self.assertEqual([str(cost) for cost in costs(machine, BOARD, CLAIM, {"b": 0, "c": 0}).values()], ["10", "10", "5", "5"])
+        self.assertTrue(is_same(cheapest(machine, BOARD, CLAIM, {"b": 0, "c": 0}), (Ratio(5), "c")))
+
     def test_sets_without_a_cover(self):
         """The ring that owes is parted from the begin where the bell is heard and where not alike."""
         chance = random.Random(711)
@@ -145,6 +151,12 @@ class Plans(unittest.TestCase):
         plan = {stand: (4, [at]) for at, stand in enumerate(sorted(told.leads))}
         self.assertIs(is_folded_plan(market, claim, plan), True)
         folded = folded_with_bell(market, claim, plan, "c")
+        self.assertTrue(is_same(folded_with_bell(market, claim, dict(list(plan.items())[::-1]), "c"), folded))
+        length = {(stand, left): plan[stand] if left else (4, [0]) for stand, left in told.keys(3)}
+        carried = with_bell(market, claim, dict(sorted(length.items())[::-1]), "c")
+        for stand, left in Told(more).keys(3):
+            right = min(key for key in length if key[1] >= left and is_over(key[0], stand))
+            self.assertTrue(is_same(carried[stand, left], (Ratio(4), [Ratio.total(length[right][1]) if left else Ratio(0)])))
         for stand in Told(more).leads:
             right = min(old for old in told.leads if is_over(old, stand))
             self.assertTrue(is_same(folded[stand], (Ratio(4), [Ratio(plan[right][1][0])])))
@@ -165,6 +177,7 @@ class Plans(unittest.TestCase):
                 later += key[1] > left
             carried = with_bell(market, claim, plan, bell)
             self.assertTrue(is_same(carried, right))
+            self.assertTrue(is_same(with_bell(market, claim, dict(list(plan.items())[::-1]), bell), right))
             self.assertTrue(new.is_length_plan(claim, own, many, carried))
             self.assertIs(is_length_plan(more, claim, own, many, carried), True)
             parted += len(new.leads) > len(told.leads)
@@ -185,6 +198,7 @@ class Plans(unittest.TestCase):
                 right[stand] = plan[old]
             carried = folded_with_bell(market, claim, plan, bell)
             self.assertTrue(is_same(carried, right))
+            self.assertTrue(is_same(folded_with_bell(market, claim, dict(list(plan.items())[::-1]), bell), right))
             self.assertTrue(new.is_folded_plan(claim, carried))
             self.assertTrue(carried[new.first][0].is_at_most(plan[told.first][0]))
             self.assertTrue(cover(more, claim).is_at_most(cover(market, claim)))

@@ -41,6 +41,10 @@ class Papers(unittest.TestCase):
         for market, claims, value in ((MUTE, CLAIMS, PAPER), (MUTE, tuple(CLAIMS), PAPER), (FORK, TWO, FORKED)):
             self.assertIs(is_shares_paper(market=market, claims=claims, value=value), True)
         self.assertIs(is_shares_paper(FORK, TWO, shares_paper(FORK, TWO)), True)
+        backwards = tuple(dict(list(part.items())[::-1]) for part in FORKED)
+        for value in (backwards, (FORKED[0], backwards[1]), (backwards[0], FORKED[1])):
+            self.assertIs(is_shares_paper(FORK, TWO, value), True)
+            self.assertTrue(is_same(shares(FORK, TWO, value), shares(FORK, TWO, FORKED)))
         self.assertIsNone(shares_paper(SWING, [Claim({0: 1}, {"a": 1})]))
 
     def test_values_that_are_none(self):

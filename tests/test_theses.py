@@ -144,6 +144,17 @@ class Lines(unittest.TestCase):
                 if is_true((word, BARRING, TOLLED, number)):
                     self.assertIs(is_paper((word, BARRING, TOLLED, number), paper_of((word, BARRING, TOLLED, number))), True)
 
+    def test_papers_that_are_worth_just_the_number(self):
+        free = WAIT.with_board(Board([[]]))
+        weights, late = {"a": Ratio(2, 3), "b": Ratio(1, 3)}, {"": Ratio(1, 6), "aa": Ratio(5, 12), "bb": Ratio(5, 12)}
+        flow = {(START, 1): (Ratio(1, 3), {"a": Ratio(1, 3), "b": Ratio(1, 3)}), (START, 0): (Ratio(1, 3), {}), (ENDED, 0): (Ratio(1, 3), {})}
+        folded = {START: (HALF, {"a": HALF, "b": HALF}), ENDED: (HALF, {})}
+        for word, parts, number, rest, paper in (("short", (free, START, {"a": 0, "b": 3}), 1, (), weights), ("late lacking", (EVEN, ALIKE), 5, (2, 1), late),
+                                                 ("lacking", (WAIT, DUE), 1, (1,), flow), ("never at once", (WAIT, DUE), Ratio(3, 2), (), folded),
+                                                 ("some length fails", (WAIT, DUE), Ratio(3, 2), (), folded)):
+            self.assertIs(is_paper((word, *parts, number, *rest), paper), False)
+            self.assertIs(is_paper((word, *parts, Ratio.total([number, Ratio(-1, 99)]), *rest), paper), True, word)
+
     def test_by_chance(self):
         chance = random.Random(771)
         seen = {}
