@@ -33,8 +33,8 @@ class Desk:
         desk = cls(market, claim, number)
         if not isinstance(plans, dict):
             raise InvalidPlans(plans)
-        names = sorted([name for name in plans if isinstance(name, str)])
-        for name in [name for name in plans if not isinstance(name, str)] + names:
+        names = sorted([key for key in plans if isinstance(key, str)])
+        for name in [key for key in plans if not isinstance(key, str)] + names:
             desk[name] = plans[name]
         check_lines(lines)
         desk.do_all(*lines)

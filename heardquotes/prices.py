@@ -35,7 +35,7 @@ def cost_of(least, bells, prices):
 def cheapest(machine, board, claim, prices):
     told = costs(machine, board, claim, prices)
     found = None
-    for _, bells in sorted([(len(bells), bells) for bells in told]):
+    for _, bells in sorted([(len(some), some) for some in told]):
         if told[bells] is not None and (found is None or told[bells].is_below(found[0])):
             found = (told[bells], bells)
     return found

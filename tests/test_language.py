@@ -248,6 +248,22 @@ class Language(unittest.TestCase):
                    if isinstance(item, ast.FunctionDef)}
         self.assertFalse(properties & plain & methods)
 
+    def test_nothing_is_stored_under_the_name_of_a_property(self):
+        properties = {node.name for _, node in functions()
+                      if any(isinstance(item, ast.Name) and item.id == "property" for item in node.decorator_list)}
+        self.assertIn("stand", properties)
+        for stem, node in nodes(ast.Attribute):
+            if isinstance(node.ctx, ast.Store):
+                self.assertNotIn(node.attr, properties, self.say(stem, node))
+
+    def test_lambdas_have_names_of_their_own(self):
+        for stem, tree in TREES.items():
+            taken = {alias.name for node in tree.body if isinstance(node, ast.ImportFrom) for alias in node.names}
+            taken |= {node.name for node in tree.body if isinstance(node, (ast.ClassDef, ast.FunctionDef))}
+            for node in ast.walk(tree):
+                if isinstance(node, ast.Lambda):
+                    self.assertFalse({arg.arg for arg in node.args.args} & taken, self.say(stem, node))
+
     def test_comparisons_by_is(self):
         for stem, node in nodes(ast.Compare):
             for operator, right in zip(node.ops, node.comparators):
